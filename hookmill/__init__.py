@@ -1,0 +1,1 @@
+"""Nets of pieces that meet by their chief hooks, in any order."""
