@@ -46,6 +46,15 @@ def live(net):
     return [(one[0], other[0]) for one, other in net[1] if is_chief(one) and is_chief(other)]
 
 
+def mates_of(net):
+    # For those that ask for many mates of one net: a walk through all ties for each would be slow.
+    mates = {}
+    for one, other in net[1]:
+        mates[one] = other
+        mates[other] = one
+    return mates
+
+
 def arranged(pieces, ties, rings):
     # Whatever makes a net of ends that are known to be right tells it through here, so that the form is one.
     rows = [(min(one, other), max(one, other)) for one, other in ties]

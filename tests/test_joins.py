@@ -5,25 +5,10 @@ import unittest
 from hookmill.errors import NoEnd
 from hookmill.joins import beside, hooked
 from hookmill.nets import greatest, is_net, made, mate, rim
-
-STOCK = {"dot": 0, "arm": 1, "fork": 2, "hand": 6}
-NOTHING = ((), (), 0)
-BIG = 10 ** 60 - 1
+from helper import BIG, NOTHING, STOCK, some_net
 
 ONE = made(STOCK, [(2, "arm"), (5, "dot")], [((2, 0), (5, 0)), ((2, 1), (0, 0))], 2)
 OTHER = made(STOCK, [(1, "fork"), (4, "dot")], [((1, 0), (0, 1)), ((1, 1), (4, 0)), ((1, 2), (0, 0)), ((0, 2), (0, 3))], 3)
-
-
-def some_net(source, count):
-    """A net of so many pieces, tied at the toss of the source, with some rim ends."""
-    numbers = sorted(source.sample(range(1, 50), count))
-    pieces = [(number, source.choice(sorted(STOCK))) for number in numbers]
-    ends = [(number, hook) for number, name in pieces for hook in range(STOCK[name] + 1)]
-    rim_ends = source.randrange(2, 9)
-    rim_ends += (len(ends) + rim_ends) % 2
-    ends += [(0, k) for k in range(rim_ends)]
-    source.shuffle(ends)
-    return made(STOCK, pieces, list(zip(ends[::2], ends[1::2])), source.randrange(3))
 
 
 class Beside(unittest.TestCase):

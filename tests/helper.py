@@ -1,0 +1,95 @@
+"""What several test files share: a stock, nets at a toss, nets with other numbers, and alike nets the slow way."""
+
+import itertools
+
+from hookmill.nets import made
+
+STOCK = {"dot": 0, "arm": 1, "leg": 1, "fork": 2, "hand": 6}
+NOTHING = ((), (), 0)
+BIG = 10 ** 60 - 1
+
+
+def some_net(source, count, least_rim=2, most_rim=8, stock=STOCK):
+    """A net of so many pieces, tied at the toss of the source, with some rim ends (at most one more than told)."""
+    numbers = sorted(source.sample(range(1, 50), count))
+    pieces = [(number, source.choice(sorted(stock))) for number in numbers]
+    ends = [(number, hook) for number, name in pieces for hook in range(stock[name] + 1)]
+    rim_ends = source.randint(least_rim, most_rim)
+    rim_ends += (len(ends) + rim_ends) % 2
+    ends += [(0, k) for k in range(rim_ends)]
+    source.shuffle(ends)
+    return made(stock, pieces, list(zip(ends[::2], ends[1::2])), source.randrange(3))
+
+
+def with_numbers(net, new):
+    """The net with its pieces given the numbers that the dict tells."""
+    new = {0: 0, **new}
+    pieces = sorted((new[number], name) for number, name in net[0])
+    ties = sorted(tuple(sorted((new[number], hook) for number, hook in tie)) for tie in net[1])
+    return (tuple(pieces), tuple(ties), net[2])
+
+
+def tossed_numbers(source, net, bound=10 ** 60):
+    """The net with other numbers, and the dict by which they came."""
+    found = []
+    while len(found) < len(net[0]):
+        number = source.randrange(1, bound)
+        if number not in found:
+            found.append(number)
+    new = {piece[0]: number for piece, number in zip(net[0], found)}
+    return with_numbers(net, new), new
+
+
+def slowly_alike(one, other):
+    """Whether some way to give numbers makes the one the other: all are tried."""
+    numbers = [number for number, name in one[0]]
+    others = [number for number, name in other[0]]
+    if len(numbers) != len(others):
+        return False
+    return any(with_numbers(one, dict(zip(numbers, row))) == other for row in itertools.permutations(others))
+
+
+def leads(case, one, other, pairs):
+    """The list of pairs leads from the one net to the other, piece by piece and tie by tie, as it is asked for."""
+    case.assertIsInstance(pairs, list)
+    case.assertTrue(all(isinstance(pair, tuple) and len(pair) == 2 for pair in pairs))
+    case.assertEqual([number for number, new in pairs], [number for number, name in one[0]])
+    case.assertEqual(sorted(new for number, new in pairs), [number for number, name in other[0]])
+    case.assertEqual(with_numbers(one, dict(pairs)), other)
+
+
+def beside_all(nets):
+    """Many nets without rim ends beside one another."""
+    pieces, ties, rings, step = [], [], 0, 0
+    for net in nets:
+        pieces += [(number + step, name) for number, name in net[0]]
+        ties += [tuple((number + step, hook) for number, hook in tie) for tie in net[1]]
+        rings += net[2]
+        step = max([number for number, name in pieces], default=0)
+    return (tuple(pieces), tuple(ties), rings)
+
+
+def wheel(count, name="arm"):
+    """So many arms, each one's side hook tied to the next one's chief hook, round in a ring."""
+    ties = [((n, 1), (n % count + 1, 0)) for n in range(1, count + 1)]
+    return made(STOCK, [(n, name) for n in range(1, count + 1)], ties)
+
+
+def row(count, name="arm"):
+    """So many arms between two dots that hold the ends."""
+    pieces = [(1, "dot")] + [(n, name) for n in range(2, count + 2)] + [(count + 2, "arm")]
+    ties = [((n, 0), (n + 1, 1)) for n in range(1, count + 2)] + [((count + 2, 0), (count + 3, 0))]
+    return made(STOCK, pieces + [(count + 3, "dot")], ties)
+
+
+def looms(source, count):
+    """So many hands, all of one look from nearby, tied through three rows of numbers at a toss."""
+    ties = []
+    for hook in (1, 3, 5):
+        far = list(range(1, count + 1))
+        source.shuffle(far)
+        ties += [((n, hook), (far[n - 1], hook + 1)) for n in range(1, count + 1)]
+    pairs = list(range(1, count + 1))
+    source.shuffle(pairs)
+    ties += [((one, 0), (other, 0)) for one, other in zip(pairs[::2], pairs[1::2])]
+    return made(STOCK, [(n, "hand") for n in range(1, count + 1)], ties)
