@@ -2,7 +2,9 @@
 
 import itertools
 
-from hookmill.nets import made
+from hookmill.books import turned
+from hookmill.joins import beside, hooked
+from hookmill.nets import made, rim
 
 STOCK = {"dot": 0, "arm": 1, "leg": 1, "fork": 2, "hand": 6}
 NOTHING = ((), (), 0)
@@ -93,3 +95,54 @@ def looms(source, count):
     source.shuffle(pairs)
     ties += [((one, 0), (other, 0)) for one, other in zip(pairs[::2], pairs[1::2])]
     return made(STOCK, [(n, "hand") for n in range(1, count + 1)], ties)
+
+
+def lively_net(source, count, rim_ends=0, stock=STOCK, chiefs=3):
+    """A net at a toss; of its chief hooks all but each so-many-th are tied to each other."""
+    numbers = sorted(source.sample(range(1, 3 * count + 2), count))
+    pieces = [(number, source.choice(sorted(stock))) for number in numbers]
+    tied = source.sample(numbers, count - count // chiefs)
+    tied = tied[:len(tied) // 2 * 2]
+    ties = [((one, 0), (other, 0)) for one, other in zip(tied[::2], tied[1::2])]
+    ends = [(number, hook) for number, name in pieces for hook in range(stock[name] + 1) if hook or number not in tied]
+    ends += [(0, k) for k in range(rim_ends + (len(ends) + rim_ends) % 2)]
+    source.shuffle(ends)
+    return made(stock, pieces, ties + list(zip(ends[::2], ends[1::2])), source.randrange(3))
+
+
+def net_with_rim(source, count, rim_ends, stock):
+    """A net at a toss with just so many rim ends, or None where the hooks of its pieces can not be tied so."""
+    net = lively_net(source, count, rim_ends, stock)
+    return net if len([end for tie in net[1] for end in tie if end[0] == 0]) == rim_ends else None
+
+
+def even_net(source, count, sides, stock):
+    """A net for a name with itself: two like halves, some of whose rim ends are hooked with each other's."""
+    half = None
+    while half is None:
+        more = source.randrange(3)
+        half = net_with_rim(source, count, sides + more, stock)
+    net = beside(half, half)
+    for again in range(more):
+        # The last rim end of the first half, and that of the second.
+        first = sides + more - again - 1
+        net = hooked(net, first, rim(net) - 1)
+    return net
+
+
+def some_rules(source, stock, left_out=0, most_pieces=2):
+    """Rules at a toss for all pairs of names but some."""
+    rules = []
+    for one, other in itertools.combinations_with_replacement(sorted(stock), 2):
+        if source.randrange(100) < left_out:
+            continue
+        if one == other:
+            net = even_net(source, source.randrange(most_pieces), stock[one], stock)
+        else:
+            net = None
+            while net is None:
+                net = net_with_rim(source, source.randrange(most_pieces + 1), stock[one] + stock[other], stock)
+            if source.randrange(2):
+                one, other, net = other, one, turned(net, stock[one])
+        rules.append((one, other, net))
+    return rules
