@@ -146,3 +146,72 @@ def some_rules(source, stock, left_out=0, most_pieces=2):
                 one, other, net = other, one, turned(net, stock[one])
         rules.append((one, other, net))
     return rules
+
+
+NATS = """kind nat
+kind list
+maker zero nat
+maker next nat nat
+maker void list
+maker put list nat list
+taker add nat nat nat
+taker mul nat nat nat
+taker sum nat list
+taker join list list list
+rule add zero m = m
+rule add next n m = next add n m
+rule mul zero m = zero
+rule mul next n m = add m mul n m
+rule sum void = zero
+rule sum put n l = add n sum l
+rule join void l = l
+rule join put n l m = put n join l m"""
+
+
+def number(count):
+    """The words of a whole number."""
+    return ("next",) * count + ("zero",)
+
+
+def some_program(source):
+    """A sound program at a toss; each kind has a maker without parts, so that each kind has terms."""
+    letters = "abcdefghijklmnopqrstuvwxyz"
+    kinds = tuple(letters[place] * 2 for place in range(source.randrange(1, 4)))
+    makers = [("m" + kind, kind, ()) for kind in kinds]
+    for place in range(source.randrange(1, 5)):
+        parts = tuple(source.choice(kinds) for part in range(source.randrange(4)))
+        makers.append(("n" + letters[place], source.choice(kinds), parts))
+    source.shuffle(makers)
+    takers = []
+    for place in range(source.randrange(1, 5)):
+        more = tuple(source.choice(kinds) for part in range(source.randrange(3)))
+        takers.append(("t" + letters[place], source.choice(kinds), source.choice(kinds), more))
+    rules = [some_rule(source, (kinds, makers, takers), taker, maker)
+             for taker in takers for maker in makers if maker[1] == taker[2]]
+    source.shuffle(rules)
+    return (kinds, tuple(makers), tuple(takers), tuple(rules))
+
+
+def some_rule(source, heads, taker, maker):
+    kinds = maker[2] + taker[3]
+    names = source.sample("pqrstuvwxyz", len(kinds))
+    words = None
+    while words is None or len(words) > 40:
+        words = some_words(source, heads, taker[1], source.randrange(1, 9), list(zip(names, kinds)))
+    return (taker[0], maker[0], tuple(names), words)
+
+
+def some_words(source, heads, wanted, size, known=()):
+    """A term of a kind at a toss; once it has the size it is brought to its end with words that nothing follows."""
+    words, waiting = [], [wanted]
+    while waiting:
+        kind = waiting.pop()
+        small = len(words) + len(waiting) >= size
+        choices = [(name, ()) for name, one in known if one == kind] * 3
+        choices += [(name, parts) for name, one, parts in heads[1] if one == kind and not (small and parts)]
+        if not small:
+            choices += [(name, (taken,) + more) for name, one, taken, more in heads[2] if one == kind] * 2
+        name, parts = source.choice(choices)
+        words.append(name)
+        waiting += parts[::-1]
+    return tuple(words)
