@@ -31,7 +31,8 @@ def hanging_together(beside, start):
     reached = {start: True}
     waiting = [start]
     while waiting:
-        for number in beside[waiting.pop()]:
+        current = waiting.pop()
+        for number in beside[current]:
             if number not in reached:
                 reached[number] = True
                 waiting.append(number)

@@ -178,6 +178,104 @@ class Names(unittest.TestCase):
             self.assertEqual(len(defined(tree)), len(set(defined(tree))), name)
 
 
+class OwnNames(unittest.TestCase):
+    def test_no_local_is_called_like_an_import_or_a_class(self):
+        for name, tree in trees():
+            taken = {one.name for node in tree.body if isinstance(node, ast.ImportFrom) for one in node.names}
+            taken |= {node.name for node in tree.body if isinstance(node, ast.ClassDef)}
+            for node in ast.walk(tree):
+                if isinstance(node, (ast.arg, ast.Name)) and bound(node) is not None:
+                    self.assertNotIn(bound(node), taken, name)
+
+    def test_no_name_is_a_method_here_and_a_value_there(self):
+        methods = {part.name for name, node in nodes(ast.ClassDef) for part in node.body if isinstance(part, ast.FunctionDef)}
+        stored = {node.attr for name, node in nodes(ast.Attribute) if isinstance(node.ctx, ast.Store)}
+        self.assertEqual(methods & stored, set())
+        # Free is what Python's own values do not have.
+        taken = {word for kind in (str, int, list, tuple, dict, set, frozenset, bytes) for word in dir(kind)}
+        self.assertEqual((methods - DUNDERS) & taken, set())
+        self.assertEqual(stored & taken, set())
+
+    def test_no_method_stands_twice_and_classes_stand_at_the_top(self):
+        for name, tree in trees():
+            for node in ast.walk(tree):
+                if isinstance(node, ast.ClassDef):
+                    self.assertIn(node, tree.body, name)
+                    found = [part.name for part in node.body if isinstance(part, ast.FunctionDef)]
+                    self.assertEqual(len(found), len(set(found)), node.name)
+
+    def test_a_files_top_holds_plain_values(self):
+        for name, tree in trees():
+            for node in tree.body:
+                kinds = (ast.ImportFrom, ast.FunctionDef, ast.ClassDef, ast.Assign, ast.Expr)
+                self.assertIsInstance(node, kinds, name)
+                if isinstance(node, ast.Assign):
+                    ast.literal_eval(node.value)
+
+
+class Calls(unittest.TestCase):
+    WALKED = {"zip", "enumerate", "reversed", "range", "items", "keys", "values"}
+    WALKERS = {"list", "tuple", "dict", "sorted", "sum", "any", "all", "enumerate", "zip", "min", "max"}
+    KEYWORDS = {"sorted": {"key", "reverse"}, "min": {"key", "default"}, "max": {"key", "default"}, "sum": {"start"},
+                "enumerate": {"start"}, "zip": {"strict"}}
+
+    def called(self, node):
+        if isinstance(node, ast.Call):
+            return getattr(node.func, "id", getattr(node.func, "attr", None))
+        return None
+
+    def test_walked_on_the_spot(self):
+        for name, tree in trees():
+            right = [node.iter for node in ast.walk(tree) if isinstance(node, (ast.For, ast.comprehension))]
+            for node in ast.walk(tree):
+                if self.called(node) in self.WALKERS and isinstance(node.func, ast.Name):
+                    right += node.args if self.called(node) in ("zip", "dict") else node.args[:1]
+            for node in ast.walk(tree):
+                if self.called(node) in self.WALKED:
+                    self.assertIn(node, right, (name, node.lineno))
+
+    def test_what_a_loop_walks_is_not_changed_in_it(self):
+        changes = {"append", "clear", "extend", "insert", "pop", "remove", "reverse", "setdefault", "update"}
+        for name, loop in nodes(ast.For):
+            walked = {ast.unparse(part) for part in ast.walk(loop.iter) if isinstance(part, (ast.Name, ast.Attribute))}
+            for node in [part for row in loop.body for part in ast.walk(row)]:
+                if isinstance(node, ast.Call) and isinstance(node.func, ast.Attribute) and node.func.attr in changes:
+                    self.assertNotIn(ast.unparse(node.func.value), walked - {"self"}, (name, node.lineno))
+                if isinstance(node, ast.Subscript) and isinstance(node.ctx, ast.Store):
+                    self.assertNotIn(ast.unparse(node.value), walked - {"self"}, (name, node.lineno))
+
+    def test_keywords(self):
+        own = {node.name for name, node in nodes(ast.FunctionDef)}
+        for name, node in nodes(ast.Call):
+            if self.called(node) not in own:
+                known = self.KEYWORDS.get(self.called(node), set()) if isinstance(node.func, ast.Name) else set()
+                self.assertLessEqual({one.arg for one in node.keywords}, known, (name, node.lineno))
+
+    def test_sets_are_not_kept(self):
+        for name, tree in trees():
+            held = [node.args[0] for node in ast.walk(tree) if self.called(node) in ("sorted", "len") and node.args]
+            for node in ast.walk(tree):
+                self.assertNotIsInstance(node, ast.Set, name)
+                if self.called(node) in ("set", "frozenset"):
+                    self.assertIn(node, held, (name, node.lineno))
+
+    def test_pythons_own_are_called_and_not_handed_on(self):
+        for name, tree in trees():
+            free = [node.func for node in ast.walk(tree) if isinstance(node, ast.Call)]
+            free += [node.args[1] for node in ast.walk(tree) if self.called(node) == "isinstance"]
+            for base in [base for node in ast.walk(tree) if isinstance(node, ast.ClassDef) for base in node.bases]:
+                free.append(base)
+            for node in ast.walk(tree):
+                if isinstance(node, ast.Name) and node.id in dir(builtins):
+                    self.assertIn(node, free, (name, node.lineno))
+
+    def test_errors_are_made_on_the_spot(self):
+        for name, node in nodes(ast.Raise):
+            self.assertIsInstance(node.exc, ast.Call, (name, node.lineno))
+            if node.cause is not None:
+                self.assertIsNone(getattr(node.cause, "value", 0), (name, node.lineno))
+
+
 class Imports(unittest.TestCase):
     def drawn(self, tree):
         return [node for node in ast.walk(tree) if isinstance(node, (ast.Import, ast.ImportFrom))]
