@@ -27,8 +27,8 @@ class Deed:
         self.came = ()
 
 
-# A net on which many meetings are done without its being told anew after each: a meeting takes as long as its rule
-# is great, however great the net is.
+# A net on which many meetings are done without its being told anew after each: so a meeting is as quick in a great
+# net as in a small one, but where the greatest number goes and none comes.
 class Bench:
     def __init__(self, book, net):
         self.book = book

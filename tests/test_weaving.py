@@ -287,11 +287,15 @@ class BookOf(unittest.TestCase):
         self.assertLess(time.monotonic() - begin, 15)
 
     def test_a_program_of_four_thousand_signs(self):
-        heads = "kind a\n" + "\n".join(f"maker m{a}{b} a a" for a in "abcde" for b in "abcde") + "\n"
-        rules = "\n".join(f"rule t m{a}{b} x y = m{a}{b} t m{b}{a} y x" for a in "abcde" for b in "abcde")
-        program = sound(read(heads + "taker t a a a\n" + rules))
+        names = [f"t{a}{b}" for a in "abcdefgh" for b in "abcde"]
+        heads = "kind a\nmaker m a\nmaker n a a a a\n" + "\n".join(f"taker {name} a a" for name in names)
+        words = "n n x y z n n x y z n x y z y n n z y x x n x z y"
+        rules = "\n".join(f"rule {name} m = m\nrule {name} n x y z = {words}" for name in names)
+        text = heads + "\n" + rules
+        self.assertTrue(3800 < len(text) <= 4000, len(text))
         begin = time.monotonic()
-        self.assertIsNotNone(book_of(program).rule_for("maa", "t"))
+        program = sound(read(text))
+        self.assertIsNotNone(book_of(program).rule_for("n", "taa"))
         self.assertLess(time.monotonic() - begin, 5)
 
     def test_by_name(self):

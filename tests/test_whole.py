@@ -205,14 +205,16 @@ class Bounds(WholeCase):
         self.same(text, text_of(("t",) + ("n",) * 57 + ("m", "m")), (text_of(("n",) * (57 * 37) + ("m",)), 58, 0, 0))
 
     def test_a_great_program(self):
-        names = [f"m{a}{b}" for a in "abcdef" for b in "abcd"]
+        names = [f"m{a}{b}" for a in "abcdefghijklm" for b in "abcdef"][:76]
         text = "kind a\nmaker m a\n" + "\n".join(f"maker {name} a a a" for name in names) + "\ntaker t a a a\nrule t m x = x\n"
         text += "\n".join(f"rule t {name} x y z = {name} t x z t y z" for name in names)
-        self.assertLess(len(text), 4000)
+        self.assertTrue(3900 < len(text) <= 4000, len(text))
+        begin = time.monotonic()
         term_text = text_of(["t"] + [f"m{a}a m" for a in "abcdef"] + ["m", "maa", "m", "m"])
         told = reckoned(text, term_text)
         self.same(text, term_text, told)
         self.assertEqual(read(text), read(shown(read(text))))
+        self.assertLess(time.monotonic() - begin, 30)
 
 
 if __name__ == "__main__":
